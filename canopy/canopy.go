@@ -6,10 +6,13 @@ import (
 	"canopy/item"
 	"canopy/keccak"
 	"canopy/paths"
+	"canopy/tree"
 )
 
 // Tree is a map, over a store.
-type Tree struct{}
+type Tree struct {
+	tree tree.Tree
+}
 
 // Hash tells the hash of a text (P3).
 func Hash(s string) string { return keccak.Sum(s) }
@@ -27,22 +30,28 @@ func Pack(path []int, leaf bool) (string, api.Errno) { return paths.Pack(path, l
 func Unpack(s string) ([]int, bool, api.Errno) { return paths.Unpack(s) }
 
 // New makes an empty tree over a store (P6).
-func New(store ...api.Entry) (*Tree, api.Errno) { return nil, api.OK }
+func New(store ...api.Entry) (*Tree, api.Errno) {
+	made, err := tree.New(store...)
+	if err != api.OK {
+		return nil, err
+	}
+	return &Tree{tree: made}, api.OK
+}
 
 // Root tells the root (P6).
-func (t *Tree) Root() string { return "" }
+func (t *Tree) Root() string { return t.tree.Root() }
 
 // Get tells the value of a key (P7).
-func (t *Tree) Get(key string) (string, api.Errno) { return "", api.OK }
+func (t *Tree) Get(key string) (string, api.Errno) { return t.tree.Get(key) }
 
 // Put gives keys values (P8).
-func (t *Tree) Put(pairs ...api.Pair) api.Errno { return api.OK }
+func (t *Tree) Put(pairs ...api.Pair) api.Errno { return t.tree.Put(pairs...) }
 
 // Delete takes keys away (P8).
-func (t *Tree) Delete(keys ...string) api.Errno { return api.OK }
+func (t *Tree) Delete(keys ...string) api.Errno { return t.tree.Delete(keys...) }
 
 // Each tells the pairs from a key on (P9).
-func (t *Tree) Each(from string, most int) ([]api.Pair, api.Errno) { return nil, api.OK }
+func (t *Tree) Each(from string, most int) ([]api.Pair, api.Errno) { return t.tree.Each(from, most) }
 
 // Commit brings the tree into the store (P10).
 func (t *Tree) Commit() []api.Entry { return nil }

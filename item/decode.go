@@ -24,6 +24,45 @@ func Decode(s string) ([]api.Part, api.Errno) {
 	return r.parts, api.OK
 }
 
+// Text tells the bytes whose code a text of at most MaxText bytes is.
+func Text(code string) (string, bool) {
+	h, ok := wholeHead(code)
+	if !ok || h.list {
+		return "", false
+	}
+	return code[h.start:h.end], true
+}
+
+// Items tells the codes of the items of the list whose code a text of at most
+// MaxText bytes is. What is in these items is not looked at, so that there may
+// be any number of parts.
+func Items(code string) ([]string, bool) {
+	h, ok := wholeHead(code)
+	if !ok || !h.list {
+		return nil, false
+	}
+	var items []string
+	for at := h.start; at < h.end; {
+		inner, err := readHead(code, at, h.end)
+		if err != api.OK {
+			return nil, false
+		}
+		items = append(items, code[at:inner.end])
+		at = inner.end
+	}
+	return items, true
+}
+
+// wholeHead reads the head of the item that a text is from its beginning to its
+// end.
+func wholeHead(code string) (head, bool) {
+	if len(code) > api.MaxText {
+		return head{}, false
+	}
+	h, err := readHead(code, 0, len(code))
+	return h, err == api.OK && h.end == len(code)
+}
+
 type reader struct {
 	text  string
 	parts []api.Part
@@ -39,11 +78,8 @@ func (r *reader) read(at, limit, lists int) (int, api.Errno) {
 	if h.list {
 		return h.end, r.readList(h, lists)
 	}
-	data := r.text[h.start:h.end]
-	if isOwnCode(data) && h.start > at {
-		return 0, api.ErrForm
-	}
-	r.parts = append(r.parts, api.Part{Data: strings.Clone(data)})
+	data := strings.Clone(r.text[h.start:h.end])
+	r.parts = append(r.parts, api.Part{Data: data})
 	return h.end, api.OK
 }
 
@@ -95,6 +131,9 @@ func readHead(s string, at, limit int) (head, api.Errno) {
 		return head{}, api.ErrShort
 	}
 	h.end = h.start + size
+	if !h.list && isOwnCode(s[h.start:h.end]) {
+		return head{}, api.ErrForm
+	}
 	return h, api.OK
 }
 

@@ -28,7 +28,7 @@ func Encode(parts ...api.Part) (string, api.Errno) {
 	case m.size > api.MaxText:
 		return "", api.ErrLong
 	}
-	code, _ := fold(parts, textCode, listCode)
+	code, _ := fold(parts, TextCode, ListCode)
 	return code, api.OK
 }
 
@@ -99,14 +99,16 @@ func codeSize(n int) int {
 	return min(1+len(lengthBytes(n))+n, api.MaxText+1)
 }
 
-func textCode(data string) string {
+// TextCode tells the code of bytes of any length.
+func TextCode(data string) string {
 	if isOwnCode(data) {
 		return strings.Clone(data)
 	}
 	return withHead(textMark, data)
 }
 
-func listCode(codes []string) string {
+// ListCode tells the code of the list of items that have these codes.
+func ListCode(codes []string) string {
 	return withHead(listMark, strings.Join(codes, ""))
 }
 

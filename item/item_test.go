@@ -287,6 +287,14 @@ func checkText(t *testing.T, code string) {
 	if again, err := Encode(parts...); again != code || err != api.OK {
 		t.Fatalf("P4: Decode(%x) = %v, whose code is %x, %d", code, parts, again, err)
 	}
+	data, isText := Text(code)
+	items, isList := Items(code)
+	if data != parts[0].Data || isText == parts[0].List || isList != parts[0].List || len(items) != parts[0].Count {
+		t.Fatalf("Text and Items of %x = %q, %v; %q, %v", code, data, isText, items, isList)
+	}
+	if isText && TextCode(data) != code || isList && ListCode(items) != code {
+		t.Fatalf("%x does not come back from %q, %q", code, data, items)
+	}
 }
 
 func TestShortTexts(t *testing.T) {
@@ -348,6 +356,36 @@ func TestItemsComeBack(t *testing.T) {
 	}
 	if done < 10000 {
 		t.Errorf("only %d items had codes", done)
+	}
+}
+
+func TestTextAndItems(t *testing.T) {
+	for _, c := range []struct {
+		code  string
+		items []string
+	}{
+		{"\xc0", nil},
+		{"\xc8\x83cat\x83dog", []string{"\x83cat", "\x83dog"}},
+		{"\xc3a\xc1b", []string{"a", "\xc1b"}},
+		{"\xf9\x01\xf5" + a(501), slices.Repeat([]string{"a"}, 501)},
+		{"\xc9\xc8\xc7\xc6\xc5\xc4\xc3\xc2\xc1\xc0", []string{"\xc8\xc7\xc6\xc5\xc4\xc3\xc2\xc1\xc0"}},
+		{"\xf9\x17\x6d" + a(5997), slices.Repeat([]string{"a"}, 5997)},
+	} {
+		if items, ok := Items(c.code); !slices.Equal(items, c.items) || !ok {
+			t.Errorf("Items(%.40x) = %.40q, %v", c.code, items, ok)
+		}
+	}
+	for _, code := range []string{
+		"", "\x80\x80", "aa", "\x81a", "\x82a", "\xb8\x37" + a(55), "\xb9\x00\x38" + a(56), "\xb9\x17\x6e" + a(5998),
+		"\xbf\xff\xff\xff\xff\xff\xff\xff\xff" + a(7000),
+		"\xc1", "\xc0\xc0", "\xc1\x81", "\xc2\x81a", "\xc2\x82aa", "\xf8\x01a", "\xf9\x17\x6e" + a(5998),
+	} {
+		if data, ok := Text(code); data != "" || ok {
+			t.Errorf("Text(%.40x) = %q, %v", code, data, ok)
+		}
+		if items, ok := Items(code); items != nil || ok {
+			t.Errorf("Items(%.40x) = %q, %v", code, items, ok)
+		}
 	}
 }
 

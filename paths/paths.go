@@ -64,12 +64,30 @@ func Unpack(s string) ([]int, bool, api.Errno) {
 	if mark > leafMark+oddMark || !odd && second != 0 || odd && len(s) > most/2 {
 		return nil, false, api.ErrPath
 	}
-	path := make([]int, 0, 2*len(s))
+	ahead := 2
 	if odd {
-		path = append(path, second)
+		ahead = 1
 	}
-	for i := 1; i < len(s); i++ {
-		path = append(path, int(s[i]>>4), int(s[i]&15))
+	return Of(s)[ahead:], mark&leafMark != 0, api.OK
+}
+
+// Of tells the path of a key.
+func Of(key string) []int {
+	path := make([]int, 0, 2*len(key))
+	for i := range len(key) {
+		path = append(path, int(key[i]>>4), int(key[i]&15))
 	}
-	return path, mark&leafMark != 0, api.OK
+	return path
+}
+
+// Key tells the key that has a path, which is one of an even number of numbers.
+func Key(path []int) string { return string(joined(path)) }
+
+// Shared tells how many numbers two paths begin with alike.
+func Shared(a, b []int) int {
+	n := 0
+	for n < len(a) && n < len(b) && a[n] == b[n] {
+		n++
+	}
+	return n
 }

@@ -120,3 +120,42 @@ func TestArgumentsAndAnswersAreApart(t *testing.T) {
 		t.Errorf("P2: two answers share memory: %v", second)
 	}
 }
+
+func TestKeys(t *testing.T) {
+	for _, c := range []struct {
+		key  string
+		path []int
+	}{
+		{"", nil},
+		{"\x00", []int{0, 0}},
+		{"\x1f\xf1", []int{1, 15, 15, 1}},
+		{"oak", []int{6, 15, 6, 1, 6, 11}},
+		{strings.Repeat("\x01\x23\x45\x67\x89\xab\xcd\xef", 8), numbers(128, 0)},
+	} {
+		if path := Of(c.key); !slices.Equal(path, c.path) {
+			t.Errorf("Of(%q) = %v, want %v", c.key, path, c.path)
+		}
+		if key := Key(c.path); key != c.key {
+			t.Errorf("Key(%v) = %q, want %q", c.path, key, c.key)
+		}
+	}
+}
+
+func TestShared(t *testing.T) {
+	for _, c := range []struct {
+		a, b []int
+		want int
+	}{
+		{nil, nil, 0},
+		{nil, []int{1}, 0},
+		{[]int{1}, []int{2}, 0},
+		{[]int{1}, []int{1}, 1},
+		{[]int{1, 2}, []int{1, 3}, 1},
+		{[]int{1, 2}, []int{1, 2, 0}, 2},
+		{[]int{1, 2, 3, 4}, []int{1, 2, 5, 4}, 2},
+	} {
+		if n, m := Shared(c.a, c.b), Shared(c.b, c.a); n != c.want || m != c.want {
+			t.Errorf("Shared(%v, %v) = %d and %d, want %d", c.a, c.b, n, m, c.want)
+		}
+	}
+}

@@ -1,0 +1,54 @@
+package tree
+
+import (
+	"strings"
+
+	"canopy/api"
+	"canopy/keccak"
+)
+
+// store has the entries by their names.
+type store map[string]api.Entry
+
+func newStore(entries []api.Entry) (store, api.Errno) {
+	if len(entries) > api.MaxStore {
+		return nil, api.ErrLong
+	}
+	s := store{}
+	for _, e := range entries {
+		if _, twice := s[e.Name]; twice {
+			return nil, api.ErrStore
+		}
+		name := strings.Clone(e.Name)
+		s[name] = api.Entry{Name: name, Text: strings.Clone(e.Text)}
+	}
+	return s, api.OK
+}
+
+// spot is a place where a reference stands: under a node (under none, if it is
+// the root's), with so many numbers on the way to it.
+type spot struct {
+	to    ref
+	above node
+	depth int
+}
+
+// read tells the node at a spot where there is one.
+func (s store) read(at spot) (node, api.Errno) {
+	if at.to.node != nil {
+		return at.to.node, api.OK
+	}
+	e, ok := s[at.to.hash]
+	if !ok {
+		return nil, api.ErrMissing
+	}
+	// No node is that long, and the hash of a huge text takes its time.
+	if len(e.Text) > api.MaxText || keccak.Sum(e.Text) != e.Name {
+		return nil, api.ErrNode
+	}
+	n, ok := parse(e.Text, at.depth)
+	if !ok || !fits(at.above, n) || at.above != nil && len(e.Text) < hashSize {
+		return nil, api.ErrNode
+	}
+	return n, api.OK
+}
