@@ -54,10 +54,10 @@ func (t *Tree) Delete(keys ...string) api.Errno { return t.tree.Delete(keys...) 
 func (t *Tree) Each(from string, most int) ([]api.Pair, api.Errno) { return t.tree.Each(from, most) }
 
 // Commit brings the tree into the store (P10).
-func (t *Tree) Commit() []api.Entry { return nil }
+func (t *Tree) Commit() []api.Entry { return t.tree.Commit() }
 
 // Open goes to the tree under a root (P10).
-func (t *Tree) Open(root string) api.Errno { return api.OK }
+func (t *Tree) Open(root string) api.Errno { return t.tree.Open(root) }
 
 // Prove tells the nodes on a key's path (P11).
 func (t *Tree) Prove(key string) ([]string, api.Errno) { return nil, api.OK }

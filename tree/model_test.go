@@ -248,7 +248,8 @@ func (m model) passed(from string, most int) ([]string, []api.Pair) {
 	return places, pairs[:min(most, len(pairs))]
 }
 
-// opened tells the tree under a root.
+// opened tells the tree under a root that may be such as Open does not take: the
+// calls behind it are then held against reading it.
 func opened(t *testing.T, root string, entries ...api.Entry) *Tree {
 	t.Helper()
 	x, err := New(entries...)

@@ -188,6 +188,10 @@ func TestWhatIsRead(t *testing.T) {
 	if x.Root() != (model{"ka": m["ka"], "kb": "v", "kc": m["kc"], "kd": m["kd"]}).root() {
 		t.Errorf("P6: the root is not that of what the tree holds")
 	}
+	x.Commit()
+	lose(t, x, x.Root())
+	get("kb", api.OK)
+	get("kc", api.ErrMissing)
 }
 
 // TestTextsAreCopied: a text that was handed in, or is told, is no piece of what
@@ -197,13 +201,21 @@ func TestTextsAreCopied(t *testing.T) {
 	value := strings.Clone(long)
 	x := opened(t, "", e)
 	x.Put(put("a", value))
-	kept := x.store[e.Name]
-	root := opened(t, h)
+	kept, v := x.store[e.Name], x.top.node.(*leaf).value
+	told := x.Commit()[0]
+	stored := x.store[told.Name]
+	root := x.Root()
+	if err := x.Open(root); err != api.OK {
+		t.Fatalf("P10: Open = %d", err)
+	}
 	for _, c := range []struct{ what, one, other string }{
 		{"a name", e.Name, kept.Name},
 		{"a text", e.Text, kept.Text},
-		{"a value", value, x.top.node.(*leaf).value},
-		{"a root", root.Root(), root.top.hash},
+		{"a value", value, v},
+		{"a name that is told", told.Name, stored.Name},
+		{"a text that is told", told.Text, stored.Text},
+		{"a root that is opened", root, x.top.hash},
+		{"a root that is told", x.Root(), x.top.hash},
 	} {
 		if c.one != c.other || unsafe.StringData(c.one) == unsafe.StringData(c.other) {
 			t.Errorf("P2: %s is kept: %q, %q", c.what, c.one, c.other)

@@ -1,6 +1,7 @@
 package tree
 
 import (
+	"maps"
 	"math/rand"
 	"slices"
 	"strings"
@@ -25,33 +26,51 @@ func keyMaker(r *rand.Rand) func() string {
 	}
 }
 
+// someValue tells one value often, so that nodes at several places are alike.
 func someValue(r *rand.Rand) string {
+	if r.Intn(3) == 0 {
+		return long
+	}
 	return strings.Repeat(string([]byte{byte(r.Intn(256))}), 1+r.Intn(2)*r.Intn(60))
 }
 
-// spoil takes some of the entries away and makes some texts wrong, and tells
-// with which error the places of their nodes are read then.
-func spoil(r *rand.Rand, m model, share int) ([]api.Entry, map[string]api.Errno) {
-	var entries []api.Entry
-	names := map[string]api.Errno{}
-	for _, e := range m.stored() {
+// spoil takes some of the entries away and makes some texts wrong.
+func spoil(r *rand.Rand, entries []api.Entry, share int) []api.Entry {
+	var left []api.Entry
+	for _, e := range entries {
 		switch r.Intn(2 * share) {
 		case 0:
-			names[e.Name] = api.ErrMissing
 		case 1:
-			names[e.Name] = api.ErrNode
-			entries = append(entries, api.Entry{Name: e.Name, Text: e.Text + "\x00"})
+			left = append(left, api.Entry{Name: e.Name, Text: e.Text + "\x00"})
 		default:
-			entries = append(entries, e)
+			left = append(left, e)
 		}
 	}
+	return left
+}
+
+// shelf: the texts of a store by their names.
+type shelf map[string]string
+
+func (s shelf) read(name string) api.Errno {
+	switch text, ok := s[name]; {
+	case !ok:
+		return api.ErrMissing
+	case keccak.Sum(text) != name:
+		return api.ErrNode
+	}
+	return api.OK
+}
+
+// bad tells with which error the places of a map's nodes are read from a store.
+func (s shelf) bad(m model) map[string]api.Errno {
 	bad := map[string]api.Errno{}
 	for _, n := range m.nodes() {
-		if err := names[keccak.Sum(n.code)]; n.named() && err != api.OK {
+		if err := s.read(keccak.Sum(n.code)); n.named() && err != api.OK {
 			bad[n.place] = err
 		}
 	}
-	return entries, bad
+	return bad
 }
 
 func firstError(places []string, bad map[string]api.Errno) api.Errno {
@@ -66,10 +85,12 @@ func firstError(places []string, bad map[string]api.Errno) api.Errno {
 // trial: a tree over a store that is not whole, and what it should hold.
 type trial struct {
 	*testing.T
-	x    *Tree
-	m    model
-	bad  map[string]api.Errno
-	seen map[outcome]int // how often what came
+	x     *Tree
+	m     model
+	shelf shelf
+	bad   map[string]api.Errno // of the nodes that are read from the store
+	known []model              // whose roots are opened
+	seen  map[outcome]int      // how often what came
 }
 
 type outcome struct {
@@ -106,10 +127,7 @@ func (c *trial) each(from string, most int) {
 
 // change puts pairs, or deletes their keys, and checks the root.
 func (c *trial) change(deletes bool, pairs []api.Pair) {
-	after := model{}
-	for k, v := range c.m {
-		after[k] = v
-	}
+	after := maps.Clone(c.m)
 	err := api.OK
 	var keys []string
 	for _, p := range pairs {
@@ -138,61 +156,169 @@ func (c *trial) change(deletes bool, pairs []api.Pair) {
 	if err == api.OK {
 		c.m = after
 	}
-	if got := c.x.Root(); got != c.m.root() {
-		c.Fatalf("P6, P8: the root is %x, want %x, after %q (%d)", got, c.m.root(), pairs, err)
-	}
+	c.checkRoot(err)
 	c.seen[outcome{"change", err}]++
+}
+
+func (c *trial) checkRoot(err api.Errno) {
+	c.Helper()
+	if got := c.x.Root(); got != c.m.root() {
+		c.Fatalf("P6: the root is %x, want %x (%d)", got, c.m.root(), err)
+	}
+}
+
+// commit: all nodes come into the store but those at and under a place that
+// can't be read, unless they are met elsewhere, too.
+func (c *trial) commit() {
+	hidden := func(place string) bool {
+		for above := range c.bad {
+			if strings.HasPrefix(place, above) {
+				return true
+			}
+		}
+		return false
+	}
+	var want []api.Entry
+	for _, n := range c.m.nodes() {
+		name := keccak.Sum(n.code)
+		if n.named() && !hidden(n.place) && c.shelf.read(name) != api.OK {
+			want = append(want, api.Entry{Name: name, Text: n.code})
+			c.shelf[name] = n.code
+		}
+	}
+	slices.SortFunc(want, func(a, b api.Entry) int { return strings.Compare(a.Name, b.Name) })
+	if told := c.x.Commit(); !slices.Equal(told, want) {
+		c.Fatalf("P10: Commit tells %q, want %q, of %q", told, want, c.m)
+	}
+	c.checkShelf()
+	c.checkRoot(api.OK)
+	hid := len(c.bad)
+	names := map[string]string{}
+	for _, n := range c.m.nodes() {
+		names[n.place] = keccak.Sum(n.code)
+	}
+	maps.DeleteFunc(c.bad, func(place string, _ api.Errno) bool { return c.shelf.read(names[place]) == api.OK })
+	if len(c.bad) < hid {
+		c.seen[outcome{"mended", api.OK}]++
+	}
+	if c.known = append(c.known, maps.Clone(c.m)); want != nil {
+		c.seen[outcome{"commit", api.OK}]++
+	}
+}
+
+func (c *trial) checkShelf() {
+	c.Helper()
+	texts := shelf{}
+	for name, e := range c.x.store {
+		if e.Name != name {
+			c.Fatalf("P10: the store has %q under %q", e, name)
+		}
+		texts[name] = e.Text
+	}
+	if !maps.Equal(texts, c.shelf) {
+		c.Fatalf("P10: the store has %q, want %q", texts, c.shelf)
+	}
+}
+
+func (c *trial) open(m model) {
+	err := api.OK
+	if len(m) > 0 {
+		err = c.shelf.read(m.root())
+	}
+	if e := c.x.Open(m.root()); e != err {
+		c.Fatalf("P10: Open = %d, want %d, of %q", e, err, m)
+	}
+	if err == api.OK {
+		c.m, c.bad = maps.Clone(m), c.shelf.bad(m)
+	}
+	c.checkRoot(err)
+	c.checkShelf()
+	c.seen[outcome{"open", err}]++
+}
+
+// someModels makes two maps that have much in common.
+func someModels(r *rand.Rand, key func() string) []model {
+	one := model{}
+	for range r.Intn(25) {
+		one[key()] = someValue(r)
+	}
+	other := maps.Clone(one)
+	for range r.Intn(4) {
+		other[key()] = someValue(r)
+		delete(other, key())
+	}
+	return []model{one, other}
+}
+
+func newTrial(t *testing.T, r *rand.Rand, key func() string, seen map[outcome]int) *trial {
+	known := someModels(r, key)
+	whole := known[0].stored()
+	for _, e := range known[1].stored() {
+		if !slices.Contains(whole, e) {
+			whole = append(whole, e)
+		}
+	}
+	entries := spoil(r, whole, 1+r.Intn(12))
+	texts := shelf{}
+	for _, e := range entries {
+		texts[e.Name] = e.Text
+	}
+	return &trial{t, empty(t, entries...), model{}, texts, nil, append(known, model{}), seen}
 }
 
 func runTrial(t *testing.T, r *rand.Rand, seen map[outcome]int) {
 	key := keyMaker(r)
-	m := model{}
-	for range r.Intn(25) {
-		m[key()] = someValue(r)
-	}
-	entries, bad := spoil(r, m, 1+r.Intn(12))
-	c := trial{t, opened(t, m.root(), entries...), m, bad, seen}
-	if len(m) == 0 {
-		c.x = empty(t)
-	}
-	for range 30 {
-		switch r.Intn(4) {
-		case 0:
+	c := newTrial(t, r, key, seen)
+	c.open(c.known[0])
+	for range 40 {
+		switch r.Intn(20) {
+		case 0, 1, 2, 3:
 			c.get(key())
-		case 1:
+		case 4, 5, 6, 7:
 			from := key()
 			if r.Intn(3) == 0 {
 				from += strings.Repeat(key(), 3)
 			}
 			c.each(from, r.Intn(12)-1)
+		case 8, 9:
+			c.commit()
+		case 10:
+			c.open(c.known[r.Intn(len(c.known))])
 		default:
-			deletes := r.Intn(2) == 0
-			var pairs []api.Pair
-			for range 1 + r.Intn(2)*r.Intn(3) {
-				p := api.Pair{Key: key(), Value: someValue(r)}
-				if deletes || r.Intn(2) == 0 {
-					p.Value = ""
-				}
-				pairs = append(pairs, p)
-			}
-			c.change(deletes, pairs)
+			c.someChange(r, key)
 		}
 	}
 }
 
+func (c *trial) someChange(r *rand.Rand, key func() string) {
+	deletes := r.Intn(2) == 0
+	var pairs []api.Pair
+	for range 1 + r.Intn(2)*r.Intn(3) {
+		p := api.Pair{Key: key(), Value: someValue(r)}
+		if deletes || r.Intn(2) == 0 {
+			p.Value = ""
+		}
+		pairs = append(pairs, p)
+	}
+	c.change(deletes, pairs)
+}
+
 // TestAgainstModel: trees over whole stores and over such as lack nodes or have
-// wrong texts, under the calls of P6 to P9, beside the model.
+// wrong texts, under the calls of P6 to P10, beside the model.
 func TestAgainstModel(t *testing.T) {
 	r := rand.New(rand.NewSource(5))
 	seen := map[outcome]int{}
 	for range 500 {
 		runTrial(t, r, seen)
 	}
-	for _, call := range []string{"get", "each", "change"} {
+	for _, call := range []string{"get", "each", "change", "open"} {
 		for _, err := range []api.Errno{api.OK, api.ErrMissing, api.ErrNode} {
 			if n := seen[outcome{call, err}]; n < 100 {
 				t.Errorf("%s came to %d only %d times", call, err, n)
 			}
 		}
+	}
+	if seen[outcome{"commit", api.OK}] < 100 || seen[outcome{"mended", api.OK}] == 0 {
+		t.Errorf("Commit came to something too seldom: %v", seen)
 	}
 }

@@ -51,7 +51,27 @@ func readAt(t *testing.T, code string, above string, depth int) api.Errno {
 	if _, e := x.Each(key[:depth/2], 1); err == api.ErrNode && e != err {
 		t.Errorf("P9: Each comes to %d where Get comes to %d: %.200x", e, err, code)
 	}
+	checkOpen(t, root, entries, depth, err)
 	return err
+}
+
+// checkOpen: what can't be read refuses the tree only if it is the root.
+func checkOpen(t *testing.T, root string, entries []api.Entry, depth int, err api.Errno) {
+	t.Helper()
+	if depth > 0 {
+		err = api.OK
+	}
+	x := empty(t, entries...)
+	was := x.Root()
+	if e := x.Open(root); e != err {
+		t.Errorf("P10: Open = %d, want %d: %.200x", e, err, entries[0].Text)
+	}
+	if now := x.Root(); err == api.OK && now != root || err != api.OK && now != was {
+		t.Errorf("P10: the root is %x after Open: %.200x", now, entries[0].Text)
+	}
+	if told := x.Commit(); told != nil {
+		t.Errorf("P10: Commit tells %q of what is opened", told)
+	}
 }
 
 const h = "hashhashhashhashhashhashhashhash" // of nothing that a store has

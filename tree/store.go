@@ -25,6 +25,20 @@ func newStore(entries []api.Entry) (store, api.Errno) {
 	return s, api.OK
 }
 
+// isRight tells whether a text is the one that its name stands for.
+func isRight(e api.Entry) bool { return keccak.Sum(e.Text) == e.Name }
+
+// keep brings a node's code in, unless there is a right text under its hash, and
+// tells a copy of the entry and whether it is a new one.
+func (s store) keep(code string) (api.Entry, bool) {
+	name := keccak.Sum(code)
+	if e, ok := s[name]; ok && isRight(e) {
+		return api.Entry{}, false
+	}
+	s[name] = api.Entry{Name: name, Text: code}
+	return api.Entry{Name: strings.Clone(name), Text: strings.Clone(code)}, true
+}
+
 // spot is a place where a reference stands: under a node (under none, if it is
 // the root's), with so many numbers on the way to it.
 type spot struct {
@@ -43,7 +57,7 @@ func (s store) read(at spot) (node, api.Errno) {
 		return nil, api.ErrMissing
 	}
 	// No node is that long, and the hash of a huge text takes its time.
-	if len(e.Text) > api.MaxText || keccak.Sum(e.Text) != e.Name {
+	if len(e.Text) > api.MaxText || !isRight(e) {
 		return nil, api.ErrNode
 	}
 	n, ok := parse(e.Text, at.depth)

@@ -29,8 +29,10 @@ func (t *Tree) Root() string {
 	case t.top.hash != "":
 		return strings.Clone(t.top.hash)
 	}
-	return keccak.Sum(item.TextCode(""))
+	return rootOfNothing()
 }
+
+func rootOfNothing() string { return keccak.Sum(item.TextCode("")) }
 
 // Get tells the value of a key.
 func (t *Tree) Get(key string) (string, api.Errno) {
