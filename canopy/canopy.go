@@ -60,9 +60,9 @@ func (t *Tree) Commit() []api.Entry { return t.tree.Commit() }
 func (t *Tree) Open(root string) api.Errno { return t.tree.Open(root) }
 
 // Prove tells the nodes on a key's path (P11).
-func (t *Tree) Prove(key string) ([]string, api.Errno) { return nil, api.OK }
+func (t *Tree) Prove(key string) ([]string, api.Errno) { return t.tree.Prove(key) }
 
 // Verify tells what a proof says of a key (P12).
 func Verify(root string, key string, proof ...string) (string, bool, api.Errno) {
-	return "", false, api.OK
+	return tree.Verify(root, key, proof...)
 }

@@ -102,7 +102,7 @@ func (b *branch) put(s store, depth int, path []int, value string) (node, api.Er
 
 // drop takes a path's value away, if it is there.
 func (s store) drop(top ref, path []int) (ref, api.Errno) {
-	switch _, err := s.get(top, path); err {
+	switch _, err := get(s.read, top, path); err {
 	case api.OK:
 		left, err := s.remove(spot{to: top}, path)
 		return ref{node: left}, err

@@ -185,6 +185,18 @@ func (m model) onPath(key string) []string {
 	return places
 }
 
+// proof tells the codes of the nodes on a key's path that are not inside of
+// another one's.
+func (m model) proof(key string) []string {
+	var codes []string
+	for _, n := range m.nodes() {
+		if strings.HasPrefix(halves(key), n.place) && n.named() {
+			codes = append(codes, n.code)
+		}
+	}
+	return codes
+}
+
 // lonely tells the place of the one node that a branch is left with when a key
 // is deleted, if it comes to that.
 func (m model) lonely(key string) []string {

@@ -169,6 +169,9 @@ func TestWhatIsRead(t *testing.T) {
 		if _, err := x.Get(key); err != want {
 			t.Errorf("P7: Get(%q) = %d, want %d", key, err, want)
 		}
+		if l, err := x.Prove(key); err != want || (l == nil) != (want != api.OK) {
+			t.Errorf("P11: Prove(%q) = %d texts, %d, want %d", key, len(l), err, want)
+		}
 	}
 	get("ka", api.OK)
 	lose(t, x, leafName(m, "ka"))
@@ -208,7 +211,9 @@ func TestTextsAreCopied(t *testing.T) {
 	if err := x.Open(root); err != api.OK {
 		t.Fatalf("P10: Open = %d", err)
 	}
+	proof, _ := x.Prove("a")
 	for _, c := range []struct{ what, one, other string }{
+		{"a text that proves", proof[0], stored.Text},
 		{"a name", e.Name, kept.Name},
 		{"a text", e.Text, kept.Text},
 		{"a value", value, v},

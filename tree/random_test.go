@@ -113,6 +113,76 @@ func (c *trial) get(key string) {
 	c.seen[outcome{"get", err}]++
 }
 
+func (c *trial) prove(key string) {
+	want, err := c.m.proof(key), firstError(c.m.onPath(key), c.bad)
+	if err != api.OK {
+		want = nil
+	}
+	if got, e := c.x.Prove(key); !slices.Equal(got, want) || e != err {
+		c.Fatalf("P11: Prove(%q) = %q, %d, want %q, %d, of %q", key, got, e, want, err, c.m)
+	}
+	c.checkRoot(err)
+	c.seen[outcome{"prove", err}]++
+}
+
+// verify: of all lists of texts one alone says something of a key under a root.
+func (c *trial) verify(m model, key string, proof []string) {
+	value, there := m[key]
+	err := api.OK
+	if !slices.Equal(proof, m.proof(key)) {
+		value, there, err = "", false, api.ErrProof
+	}
+	own := slices.Clone(proof)
+	if v, y, e := Verify(m.root(), key, proof...); v != value || y != there || e != err {
+		c.Fatalf("P12: Verify(.., %q, %q) = %q, %v, %d, want %q, %v, %d, of %q", key, proof, v, y, e, value, there, err, m)
+	}
+	if !slices.Equal(proof, own) {
+		c.Fatalf("P2: Verify changes %q to %q", own, proof)
+	}
+	c.seen[outcome{"verify", err}]++
+}
+
+// altered tells a proof with something changed, and a part of other ones.
+func altered(r *rand.Rand, proof, other []string) []string {
+	l := slices.Clone(proof)
+	all := append(slices.Clone(proof), other...)
+	if len(all) == 0 {
+		return []string{"\x80"}
+	}
+	i, k := r.Intn(len(l)+1), r.Intn(max(1, len(l)))
+	some := all[r.Intn(len(all))]
+	switch kind := r.Intn(6); {
+	case kind == 0 || len(l) == 0 || i == len(l):
+		return slices.Insert(l, i, some)
+	case kind == 1:
+		return slices.Delete(l, i, i+1)
+	case kind == 2:
+		l[i], l[k] = l[k], l[i]
+	case kind == 3:
+		l[i] = some
+	case kind == 4:
+		b := []byte(l[i])
+		b[r.Intn(len(b))] ^= byte(1 + r.Intn(255))
+		l[i] = string(b)
+	default:
+		l[i] = []string{l[i][1:], l[i][:len(l[i])-1], l[i] + "\x80", "", "\x80"}[r.Intn(5)]
+	}
+	return l
+}
+
+// proofs: what a tree tells, what comes of it, and of what is like it.
+func (c *trial) proofs(r *rand.Rand, key func() string) {
+	one, two := key(), key()
+	c.prove(one)
+	other := c.known[r.Intn(len(c.known))]
+	proof := c.m.proof(one)
+	c.verify(c.m, one, proof)
+	c.verify(c.m, two, proof)
+	c.verify(other, one, proof)
+	c.verify(c.m, one, altered(r, proof, other.proof(two)))
+	c.verify(c.m, one, altered(r, proof, c.m.proof(two)))
+}
+
 func (c *trial) each(from string, most int) {
 	places, want := c.m.passed(from, most)
 	err := firstError(places, c.bad)
@@ -206,6 +276,20 @@ func (c *trial) commit() {
 	}
 }
 
+// mend puts a leaf that can't be read at another place, too, and commits it.
+func (c *trial) mend(r *rand.Rand) {
+	for _, n := range c.m.nodes() {
+		if c.bad[n.place] == api.OK || n.kind != "leaf" || n.place == "" {
+			continue
+		}
+		beside := n.place[:len(n.place)-1] + string([]byte{byte(r.Intn(16))})
+		value := c.m[wholeBytes(n.place+n.path)]
+		c.change(false, []api.Pair{{Key: wholeBytes(beside + n.path), Value: value}})
+		c.commit()
+		return
+	}
+}
+
 func (c *trial) checkShelf() {
 	c.Helper()
 	texts := shelf{}
@@ -271,7 +355,7 @@ func runTrial(t *testing.T, r *rand.Rand, seen map[outcome]int) {
 	c := newTrial(t, r, key, seen)
 	c.open(c.known[0])
 	for range 40 {
-		switch r.Intn(20) {
+		switch r.Intn(24) {
 		case 0, 1, 2, 3:
 			c.get(key())
 		case 4, 5, 6, 7:
@@ -284,6 +368,10 @@ func runTrial(t *testing.T, r *rand.Rand, seen map[outcome]int) {
 			c.commit()
 		case 10:
 			c.open(c.known[r.Intn(len(c.known))])
+		case 11, 12, 13:
+			c.proofs(r, key)
+		case 14:
+			c.mend(r)
 		default:
 			c.someChange(r, key)
 		}
@@ -304,21 +392,24 @@ func (c *trial) someChange(r *rand.Rand, key func() string) {
 }
 
 // TestAgainstModel: trees over whole stores and over such as lack nodes or have
-// wrong texts, under the calls of P6 to P10, beside the model.
+// wrong texts, under the calls of P6 to P12, beside the model.
 func TestAgainstModel(t *testing.T) {
 	r := rand.New(rand.NewSource(5))
 	seen := map[outcome]int{}
-	for range 500 {
+	for range 300 {
 		runTrial(t, r, seen)
 	}
-	for _, call := range []string{"get", "each", "change", "open"} {
+	for _, call := range []string{"get", "each", "change", "open", "prove"} {
 		for _, err := range []api.Errno{api.OK, api.ErrMissing, api.ErrNode} {
-			if n := seen[outcome{call, err}]; n < 100 {
+			if n := seen[outcome{call, err}]; n < 50 {
 				t.Errorf("%s came to %d only %d times", call, err, n)
 			}
 		}
 	}
-	if seen[outcome{"commit", api.OK}] < 100 || seen[outcome{"mended", api.OK}] == 0 {
+	if seen[outcome{"commit", api.OK}] < 100 || seen[outcome{"mended", api.OK}] < 20 {
 		t.Errorf("Commit came to something too seldom: %v", seen)
+	}
+	if seen[outcome{"verify", api.OK}] < 1000 || seen[outcome{"verify", api.ErrProof}] < 1000 {
+		t.Errorf("Verify came to one of its answers too seldom: %v", seen)
 	}
 }

@@ -1,6 +1,7 @@
 package tree
 
 import (
+	"slices"
 	"strings"
 	"testing"
 
@@ -52,7 +53,31 @@ func readAt(t *testing.T, code string, above string, depth int) api.Errno {
 		t.Errorf("P9: Each comes to %d where Get comes to %d: %.200x", e, err, code)
 	}
 	checkOpen(t, root, entries, depth, err)
+	checkProof(t, root, entries, err)
 	return err
+}
+
+// checkProof: the texts down to the one that is looked at are the proof, if it
+// can be read.
+func checkProof(t *testing.T, root string, entries []api.Entry, err api.Errno) {
+	t.Helper()
+	key := string(make([]byte, 64))
+	var proof []string
+	for _, e := range slices.Backward(entries) {
+		proof = append(proof, e.Text)
+	}
+	value, want, e := "", proof, api.OK
+	if err != api.OK {
+		want, e = nil, api.ErrProof
+	} else if v, missed := opened(t, root, entries...).Get(key); missed == api.OK {
+		value = v
+	}
+	if got, e := opened(t, root, entries...).Prove(key); !slices.Equal(got, want) || e != err {
+		t.Errorf("P11: Prove = %.200q, %d, want %.200q, %d", got, e, want, err)
+	}
+	if v, there, got := Verify(root, key, proof...); v != value || there != (value != "") || got != e {
+		t.Errorf("P12: Verify = %.200q, %v, %d, want %.200q, %d: %.200x", v, there, got, value, e, entries[0].Text)
+	}
 }
 
 // checkOpen: what can't be read refuses the tree only if it is the root.
@@ -243,6 +268,11 @@ func TestNodesThatCannotBeRead(t *testing.T) {
 		x := opened(t, m.root(), c.spoil(m.stored())...)
 		if v, err := x.Get("oak"); v != "" || err != c.err {
 			t.Errorf("P7: %s: Get = %q, %d", c.what, v, err)
+		}
+		for _, key := range []string{"oak", "not there", ""} {
+			if l, err := x.Prove(key); l != nil || err != c.err {
+				t.Errorf("P11: %s: Prove(%q) = %q, %d", c.what, key, l, err)
+			}
 		}
 		if l, err := x.Each("", 5); l != nil || err != c.err {
 			t.Errorf("P9: %s: Each = %q, %d", c.what, l, err)

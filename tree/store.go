@@ -25,14 +25,14 @@ func newStore(entries []api.Entry) (store, api.Errno) {
 	return s, api.OK
 }
 
-// isRight tells whether a text is the one that its name stands for.
-func isRight(e api.Entry) bool { return keccak.Sum(e.Text) == e.Name }
+// isRight tells whether a text is the one that a name stands for.
+func isRight(text, name string) bool { return keccak.Sum(text) == name }
 
 // keep brings a node's code in, unless there is a right text under its hash, and
 // tells a copy of the entry and whether it is a new one.
 func (s store) keep(code string) (api.Entry, bool) {
 	name := keccak.Sum(code)
-	if e, ok := s[name]; ok && isRight(e) {
+	if e, ok := s[name]; ok && isRight(e.Text, name) {
 		return api.Entry{}, false
 	}
 	s[name] = api.Entry{Name: name, Text: code}
@@ -47,7 +47,10 @@ type spot struct {
 	depth int
 }
 
-// read tells the node at a spot where there is one.
+// reader tells the node at a spot where there is one.
+type reader func(at spot) (node, api.Errno)
+
+// read is the reader of what the store has.
 func (s store) read(at spot) (node, api.Errno) {
 	if at.to.node != nil {
 		return at.to.node, api.OK
@@ -56,12 +59,18 @@ func (s store) read(at spot) (node, api.Errno) {
 	if !ok {
 		return nil, api.ErrMissing
 	}
+	return at.nodeOf(e.Text)
+}
+
+// nodeOf tells the node whose code a text is, if the text is the one that the
+// spot's hash stands for and the node may stand there.
+func (at spot) nodeOf(text string) (node, api.Errno) {
 	// No node is that long, and the hash of a huge text takes its time.
-	if len(e.Text) > api.MaxText || !isRight(e) {
+	if len(text) > api.MaxText || !isRight(text, at.to.hash) {
 		return nil, api.ErrNode
 	}
-	n, ok := parse(e.Text, at.depth)
-	if !ok || !fits(at.above, n) || at.above != nil && len(e.Text) < hashSize {
+	n, ok := parse(text, at.depth)
+	if !ok || !fits(at.above, n) || at.above != nil && len(text) < hashSize {
 		return nil, api.ErrNode
 	}
 	return n, api.OK

@@ -39,18 +39,18 @@ func (t *Tree) Get(key string) (string, api.Errno) {
 	if len(key) > api.MaxKey {
 		return "", api.ErrKey
 	}
-	value, err := t.store.get(t.top, paths.Of(key))
+	value, err := get(t.store.read, t.top, paths.Of(key))
 	return strings.Clone(value), err
 }
 
 // get goes a path from the topmost node on, to its value.
-func (s store) get(top ref, path []int) (string, api.Errno) {
+func get(read reader, top ref, path []int) (string, api.Errno) {
 	if top.isEmpty() {
 		return "", api.ErrNone
 	}
 	at := spot{to: top}
 	for {
-		n, err := s.read(at)
+		n, err := read(at)
 		if err != api.OK {
 			return "", err
 		}
